@@ -1,0 +1,93 @@
+"""What several tests need."""
+
+import inspect
+import sys
+
+from everyanswer.runs import events
+from everyanswer.texts import read
+
+YES = ("yes",)
+NO = ("no",)
+NONE = ("none",)
+
+
+def num(n):
+    return ("number", n)
+
+
+def text(phrase):
+    return ("text", phrase)
+
+
+def name(word):
+    return ("name", word)
+
+
+def say(n=1):
+    return ("say", num(n))
+
+
+def lines(*rows):
+    return "\n".join(rows)
+
+
+def run(program, answers=()):
+    """The events of the program with this text."""
+    return events(read(program), list(answers))
+
+
+def last(program, answers=()):
+    """The last event."""
+    return run(program, answers)[-1]
+
+
+def said(program, answers=()):
+    """The words said by a run that ends."""
+    found = run(program, answers)
+    assert found[-1] == ("ended",), found
+    return [event[1] for event in found if event[0] == "say"]
+
+
+def fails(program, answers=()):
+    """The words with which a run fails."""
+    found = run(program, answers)
+    assert found[-1][0] == "failed", found
+    return found[-1][1]
+
+
+def worth(e, *ahead):
+    """The words of an expression, behind these statements; both are texts."""
+    return said(lines(*ahead, f"say {e}"))[-1]
+
+
+def fault(e, *ahead):
+    """The error that arises in an expression, behind these statements; both are texts."""
+    return fails(lines(*ahead, f"say {e}"))
+
+
+def nested(depth, innermost, wrap):
+    """A statement wrapped so often."""
+    for _ in range(depth):
+        innermost = wrap(innermost)
+    return innermost
+
+
+def lists_in(value):
+    """All lists and dicts within a value, as they stand."""
+    out = []
+    if isinstance(value, (list, tuple)):
+        if isinstance(value, list):
+            out.append(value)
+        for part in value:
+            out.extend(lists_in(part))
+    return out
+
+
+def shallow(function, *values):
+    """What a function returns that may not go deeper than a few hundred calls."""
+    before = sys.getrecursionlimit()
+    sys.setrecursionlimit(len(inspect.stack()) + 250)
+    try:
+        return function(*values)
+    finally:
+        sys.setrecursionlimit(before)

@@ -1,0 +1,392 @@
+"""A second, plainly recursive way to run a program, to compare the package with.
+
+It takes Python's own errors for give, leave and raise, knows no moments, and stops at a bound of statements.
+"""
+
+import sys
+
+
+class Thing:
+    def __init__(self, kind, **fields):
+        self.kind = kind
+        self.__dict__.update(fields)
+
+
+class Raised(Exception):
+    def __init__(self, value):
+        self.value = value
+
+
+class Given(Exception):
+    def __init__(self, value):
+        self.value = value
+
+
+class Left(Exception):
+    pass
+
+
+class Stopped(Exception):
+    pass
+
+
+class Env:
+    def __init__(self, around):
+        self.around = around
+        self.vars = {}
+
+    def holder(self, name):
+        env = self
+        while env is not None:
+            if name in env.vars:
+                return env
+            env = env.around
+        raise Raised("unset")
+
+
+class Context:
+    def __init__(self, env, home, first):
+        self.env = env
+        self.home = home
+        self.first = first
+
+
+def key_of(value):
+    return (type(value).__name__, value)
+
+
+def kind_of(value):
+    names = {type(None): "none", bool: "truth", int: "number", str: "text"}
+    if isinstance(value, Thing):
+        return {"bound": "function"}.get(value.kind, value.kind)
+    return names[type(value)]
+
+
+def inner(value):
+    kind = kind_of(value)
+    if kind == "none":
+        return "none"
+    if kind == "truth":
+        return {True: "yes", False: "no"}[value]
+    if kind == "number":
+        return "%d" % value
+    if kind == "text":
+        return "'" + value + "'"
+    if kind == "list":
+        return "[..]" if value.items else "[]"
+    if kind == "table":
+        return "{..}" if value.rows else "{}"
+    return "<" + kind + ">"
+
+
+def words_of(value):
+    kind = kind_of(value)
+    if kind == "text":
+        return value
+    if kind == "list":
+        return "[%s]" % ", ".join(inner(v) for v in value.items)
+    if kind == "table":
+        return "{%s}" % ", ".join("%s: %s" % (inner(k), inner(v)) for k, v in value.rows.values())
+    return inner(value)
+
+
+def find_method(home, name):
+    if home is None:
+        return None
+    return home.methods.get(name) or find_method(home.over, name)
+
+
+def want(truth, text="kind"):
+    if not truth:
+        raise Raised(text)
+
+
+class Oracle:
+    def __init__(self, answers, bound=3000):
+        self.answers = list(answers)
+        self.bound = bound
+        self.count = 0
+        self.frames = 0
+        self.out = []
+
+    def run(self, block):
+        """The events; last ("bound",) where the bound was met."""
+        before = sys.getrecursionlimit()
+        sys.setrecursionlimit(20000)
+        try:
+            self.frames = 1
+            self.block(block, Context(Env(None), None, None))
+            self.out.append(("ended",))
+        except Raised as e:
+            self.out.append(("failed", words_of(e.value)))
+        except Stopped as e:
+            self.out.append(e.args[0])
+        finally:
+            sys.setrecursionlimit(before)
+        return self.out
+
+    def block(self, block, ctx):
+        for s in block:
+            self.statement(s, ctx)
+
+    def value(self, e, ctx):
+        return getattr(self, "e_" + e[0])(e, ctx)
+
+    def e_none(self, e, ctx):
+        return None
+
+    def e_yes(self, e, ctx):
+        return True
+
+    def e_no(self, e, ctx):
+        return False
+
+    def e_number(self, e, ctx):
+        return e[1]
+
+    e_text = e_number
+
+    def e_name(self, e, ctx):
+        return ctx.env.holder(e[1]).vars[e[1]]
+
+    def e_op(self, e, ctx):
+        a = self.value(e[2], ctx)
+        if e[1] in ("and", "or"):
+            want(kind_of(a) == "truth")
+            if a is (e[1] == "or"):
+                return a
+            b = self.value(e[3], ctx)
+            want(kind_of(b) == "truth")
+            return b
+        b = self.value(e[3], ctx)
+        kinds = (kind_of(a), kind_of(b))
+        if e[1] == "==":
+            return a is b if isinstance(a, Thing) or isinstance(b, Thing) else key_of(a) == key_of(b)
+        if e[1] == "<":
+            want(kinds in (("number", "number"), ("text", "text")))
+            return a < b
+        if kinds == ("text", "text") and e[1] == "+":
+            want(len(a + b) <= 60, "great")
+            return a + b
+        want(kinds == ("number", "number"))
+        result = {"+": a + b, "-": a - b, "*": a * b}[e[1]]
+        want(abs(result) <= 10 ** 9, "great")
+        return result
+
+    def e_not(self, e, ctx):
+        a = self.value(e[1], ctx)
+        want(kind_of(a) == "truth")
+        return not a
+
+    def e_len(self, e, ctx):
+        a = self.value(e[1], ctx)
+        want(kind_of(a) in ("list", "table", "text"))
+        return len(a) if isinstance(a, str) else len(a.items if a.kind == "list" else a.rows)
+
+    def e_kind(self, e, ctx):
+        return kind_of(self.value(e[1], ctx))
+
+    def e_list(self, e, ctx):
+        return Thing("list", items=[self.value(item, ctx) for item in e[1]])
+
+    def e_table(self, e, ctx):
+        table = Thing("table", rows={})
+        for key, worth in e[1]:
+            k = self.value(key, ctx)
+            self.place(table, k, self.value(worth, ctx))
+        return table
+
+    def place(self, goal, key, value):
+        if kind_of(goal) == "list" and kind_of(key) == "number":
+            want(0 <= key < len(goal.items), "range")
+            goal.items[key] = value
+            return
+        want(kind_of(goal) == "table" and not isinstance(key, Thing))
+        want(key_of(key) in goal.rows or len(goal.rows) < 12, "great")
+        goal.rows[key_of(key)] = (key, value)
+
+    def e_get(self, e, ctx):
+        a = self.value(e[1], ctx)
+        if kind_of(a) == "object":
+            if e[2] in a.fields:
+                return a.fields[e[2]]
+            method = find_method(a.home, e[2])
+            want(method, "field")
+            return Thing("bound", owner=a, function=method)
+        want(kind_of(a) == "class")
+        method = find_method(a, e[2])
+        want(method, "field")
+        return method
+
+    def e_at(self, e, ctx):
+        a = self.value(e[1], ctx)
+        k = self.value(e[2], ctx)
+        if kind_of(a) in ("list", "text"):
+            row = a if isinstance(a, str) else a.items
+            want(kind_of(k) == "number")
+            want(0 <= k < len(row), "range")
+            return row[k]
+        want(kind_of(a) == "table" and not isinstance(k, Thing))
+        want(key_of(k) in a.rows, "key")
+        return a.rows[key_of(k)][1]
+
+    def e_above(self, e, ctx):
+        owner = ctx.env.holder(ctx.first).vars[ctx.first]
+        want(kind_of(owner) == "object")
+        method = find_method(ctx.home.over, e[1])
+        want(method, "field")
+        return Thing("bound", owner=owner, function=method)
+
+    def statement(self, s, ctx):
+        if s[0] != "ask":
+            self.begin()
+        getattr(self, "s_" + s[0])(s, ctx)
+
+    def begin(self):
+        if self.count == self.bound:
+            raise Stopped(("bound",))
+        self.count += 1
+
+    def assign(self, ctx, name, value):
+        ctx.env.holder(name).vars[name] = value
+
+    def s_let(self, s, ctx):
+        ctx.env.vars[s[1]] = self.value(s[2], ctx)
+
+    def s_set(self, s, ctx):
+        self.assign(ctx, s[1], self.value(s[2], ctx))
+
+    def s_put(self, s, ctx):
+        a = self.value(s[1], ctx)
+        b = self.value(s[3], ctx)
+        want(kind_of(a) == "object")
+        a.fields[s[2]] = b
+
+    def s_place(self, s, ctx):
+        self.place(*[self.value(e, ctx) for e in s[1:]])
+
+    def s_add(self, s, ctx):
+        a = self.value(s[1], ctx)
+        b = self.value(s[2], ctx)
+        want(kind_of(a) == "list")
+        want(len(a.items) < 12, "great")
+        a.items.append(b)
+
+    def s_cut(self, s, ctx):
+        a = self.value(s[1], ctx)
+        want(kind_of(a) == "list")
+        want(a.items, "range")
+        a.items.pop()
+
+    def s_say(self, s, ctx):
+        self.out.append(("say", words_of(self.value(s[1], ctx))))
+
+    def s_ask(self, s, ctx):
+        self.count = 0
+        if not self.answers:
+            raise Stopped(("wait", s[2]))
+        self.out.append(("ask", s[2]))
+        self.assign(ctx, s[1], self.answers.pop(0))
+
+    def s_if(self, s, ctx):
+        a = self.value(s[1], ctx)
+        want(kind_of(a) == "truth")
+        self.block(s[2] if a else s[3], ctx)
+
+    def s_while(self, s, ctx):
+        first = True
+        while True:
+            if not first:
+                self.begin()
+            first = False
+            a = self.value(s[1], ctx)
+            want(kind_of(a) == "truth")
+            if not a:
+                return
+            try:
+                self.block(s[2], ctx)
+            except Left:
+                return
+
+    def s_leave(self, s, ctx):
+        raise Left()
+
+    def s_give(self, s, ctx):
+        raise Given(self.value(s[1], ctx))
+
+    def s_raise(self, s, ctx):
+        raise Raised(self.value(s[1], ctx))
+
+    def s_try(self, s, ctx):
+        _, block, name, caught, last = s
+        try:
+            try:
+                self.block(block, ctx)
+            except Raised as e:
+                if name is None:
+                    raise
+                ctx.env.vars[name] = e.value
+                self.block(caught, ctx)
+        except (Raised, Given, Left):
+            self.block(last, ctx)
+            raise
+        self.block(last, ctx)
+
+    def function(self, ctx, params, block, home):
+        return Thing("function", env=ctx.env, params=params, body=block, home=home)
+
+    def s_def(self, s, ctx):
+        ctx.env.vars[s[1]] = self.function(ctx, s[2], s[3], None)
+
+    def s_class(self, s, ctx):
+        over = None
+        if s[2] is not None:
+            over = self.value(s[2], ctx)
+            want(kind_of(over) == "class")
+        home = Thing("class", over=over, methods={})
+        for name, params, block in s[3]:
+            home.methods[name] = self.function(ctx, params, block, home)
+        ctx.env.vars[s[1]] = home
+
+    def invoke(self, function, values):
+        want(len(values) == len(function.params), "count")
+        want(self.frames < 20, "deep")
+        self.frames += 1
+        env = Env(function.env)
+        env.vars.update(zip(function.params, values))
+        first = function.params[0] if function.params else None
+        try:
+            self.block(function.body, Context(env, function.home, first))
+            return None
+        except Given as e:
+            return e.value
+        finally:
+            self.frames -= 1
+
+    def apply(self, callee, values):
+        kind = kind_of(callee)
+        if kind == "class":
+            made = Thing("object", home=callee, fields={})
+            method = find_method(callee, "make")
+            if method:
+                self.invoke(method, [made] + values)
+            else:
+                want(not values, "count")
+            return made
+        want(kind == "function")
+        if callee.kind == "bound":
+            return self.invoke(callee.function, [callee.owner] + values)
+        return self.invoke(callee, values)
+
+    def s_call(self, s, ctx):
+        _, how, name, e, args = s
+        callee = self.value(e, ctx)
+        result = self.apply(callee, [self.value(a, ctx) for a in args])
+        if how == "let":
+            ctx.env.vars[name] = result
+        elif how == "set":
+            self.assign(ctx, name, result)
+        elif how == "say":
+            self.out.append(("say", words_of(result)))
+        elif how == "give":
+            raise Given(result)
