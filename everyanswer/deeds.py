@@ -5,8 +5,8 @@ A deed returns what goes on behind the statement, its ending: ON if what follows
 """
 
 from everyanswer.values import (
-    Arises, Bound, Family, Function, Instance, Listing, Table, cell_index, is_number, is_truth, method_of, put_row,
-    replace_name, value_words,
+    Arises, Bound, Family, Function, Instance, Listing, Table, cell_index, is_truth, method_of, put_row, replace_name,
+    value_words,
 )
 from everyanswer.workings import work
 
@@ -55,7 +55,7 @@ def _put(machine, frame, statement):
 
 def _place(machine, frame, statement):
     goal, key, worth = [work(e, frame) for e in statement[1:]]
-    if isinstance(goal, Listing) and is_number(key):
+    if isinstance(goal, Listing):
         goal.cells[cell_index(len(goal.cells), key)] = worth
     elif isinstance(goal, Table):
         put_row(goal, key, worth)

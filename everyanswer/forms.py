@@ -184,7 +184,7 @@ def has_parts(thing, kinds, depth):
     return all([is_part(kind, part, depth) for kind, part in zip(kinds, thing[1:])])
 
 
-def is_expression(thing, depth=1):
+def is_expression(thing, depth):
     """Whether a thing is an expression that may stand at this depth."""
     if depth > DEEPEST_EXPRESSION:
         return False

@@ -8,31 +8,30 @@ DEEPEST_BLOCK = 8
 
 
 class Place:
-    """What surrounds the statements of a block: its depth, the code to which they belong, whether a while is around.
+    """What the statements of a block have around them.
 
-    routine is "top", "def" or "method", after the code.
+    depth: that of the block; routine: "top", "def" or "method", after the code to which they belong; looping: whether
+    they are within a "while" of this code.
     """
 
-    def __init__(self, depth, code, routine, looping):
+    def __init__(self, depth, routine, looping):
         self.depth = depth
-        self.code = code
         self.routine = routine
         self.looping = looping
 
 
 def top_place():
     """The place of the statements of a top block."""
-    return Place(1, (), "top", False)
+    return Place(1, "top", False)
 
 
-def inner_place(place, path, statement, number):
-    """The place of the statements in the block with this number of the statement at this path."""
-    word = statement[0]
+def inner_place(place, word):
+    """The place of the statements in the blocks of a statement that stands at a place and begins with this word."""
     if word == "def":
-        return Place(place.depth + 1, path + (number,), "def", False)
+        return Place(place.depth + 1, "def", False)
     if word == "class":
-        return Place(place.depth + 1, path + (number,), "method", False)
-    return Place(place.depth + 1, place.code, place.routine, place.looping or word == "while")
+        return Place(place.depth + 1, "method", False)
+    return Place(place.depth + 1, place.routine, place.looping or word == "while")
 
 
 def fits(statement, place):
@@ -67,8 +66,9 @@ def survey(block):
             return found, path
         found.append((path, thing, place))
         inner = []
+        around = inner_place(place, thing[0])
         for number, part in enumerate(blocks_of(thing)):
-            inner.extend(_rows(part, path + (number,), inner_place(place, path, thing, number)))
+            inner.extend(_rows(part, path + (number,), around))
         waiting.extend(inner[::-1])
     return found, None
 

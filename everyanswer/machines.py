@@ -203,10 +203,14 @@ def new_frame(function, path, parameters, values, makes):
     scope = Scope(function.scope)
     for name, value in zip(parameters, values):
         scope.names[name] = value
-    first = None
-    if len(parameters) > 0:
-        first = parameters[0]
-    return Frame(function.edition, path, scope, makes, function.home, first)
+    return Frame(function.edition, path, scope, makes, function.home, first_of(parameters))
+
+
+def first_of(parameters):
+    """The first parameter, or None."""
+    if len(parameters) == 0:
+        return None
+    return parameters[0]
 
 
 def started(program):

@@ -9,13 +9,12 @@ from everyanswer.lines import Unreadable
 class Level:
     """An open block, or an open class that takes methods.
 
-    indent: how many spaces its lines have ahead; at: its path without an index; stored: its statements so far;
-    owing: whether it must not stay empty; family: the class statement that takes methods, or None.
+    indent: how many spaces its lines have ahead; stored: its statements so far; owing: whether it must not stay
+    empty; family: the class statement that takes methods, or None.
     """
 
-    def __init__(self, indent, at, block, place, owing, family):
+    def __init__(self, indent, block, place, owing, family):
         self.indent = indent
-        self.at = at
         self.stored = block
         self.place = place
         self.owing = owing
@@ -35,7 +34,7 @@ class Reader:
 
     def __init__(self):
         self.top = []
-        self.levels = [Level(0, (), self.top, top_place(), False, None)]
+        self.levels = [Level(0, self.top, top_place(), False, None)]
         self.many = 0
 
     def take_line(self, text):
@@ -75,18 +74,15 @@ class Reader:
         self.many += 1
         level.stored.append(statement)
         if statement[0] == "class":
-            path = level.at + (len(level.stored) - 1,)
-            self.levels.append(Level(level.indent + 2, path, [], level.place, False, statement))
+            self.levels.append(Level(level.indent + 2, [], level.place, False, statement))
         elif len(blocks_of(statement)) > 0:
             self._open_block(level, 0, False)
 
     def _open_block(self, level, number, owing):
         """Opens a block of the newest statement of a level."""
         statement = level.stored[-1]
-        path = level.at + (len(level.stored) - 1,)
         block = blocks_of(statement)[number]
-        place = inner_place(level.place, path, statement, number)
-        self.levels.append(Level(level.indent + 2, path + (number,), block, place, owing, None))
+        self.levels.append(Level(level.indent + 2, block, inner_place(level.place, statement[0]), owing, None))
 
     def _take_part(self, level, found):
         """Takes a line else, catch or last for the newest statement of a level."""
@@ -115,6 +111,4 @@ class Reader:
         family[3].append((found[1], found[2], found[3]))
         if not is_statement(family) or not fits(family, level.place):
             raise Unreadable()
-        number = len(family[3]) - 1
-        place = inner_place(level.place, level.at, family, number)
-        self.levels.append(Level(level.indent + 2, level.at + (number,), found[3], place, False, None))
+        self.levels.append(Level(level.indent + 2, found[3], inner_place(level.place, "class"), False, None))

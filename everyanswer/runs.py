@@ -4,7 +4,7 @@ from everyanswer.errors import NoAnswers, TooMany
 from everyanswer.machines import started
 from everyanswer.shapes import has_shape, machine_at, shape_of
 
-MOST_STATEMENTS = 3000
+MOST_BEGUN = 3000
 # Behind so many statements a run is looked at for whether it goes on for ever. The last of these numbers alone
 # decides; the ones ahead of it spare most such runs the whole way.
 LOOKS = (60, 600, 3000)
@@ -57,7 +57,7 @@ def lead(machine):
             said, rows = _shortest(ahead + found[0], found[1])
             machine.finish(("ever", rows))
             return said, machine.event()
-    raise TooMany(MOST_STATEMENTS)
+    raise TooMany(MOST_BEGUN)
 
 
 def _round(editions, start, last):

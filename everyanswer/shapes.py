@@ -1,6 +1,6 @@
 """The shape of a moment: all on which a run hangs, in one form; and the machine that stands at such a moment."""
 
-from everyanswer.machines import Frame, Machine
+from everyanswer.machines import Frame, Machine, first_of
 from everyanswer.values import Bound, Family, Function, Instance, Listing, Scope, Table
 
 
@@ -80,9 +80,10 @@ def has_shape(frames, shape):
     if [numbering.frame(frame) for frame in frames] != list(told):
         return False
     for index, row in enumerate(rows):
-        if index == len(numbering.met) or numbering.thing(numbering.met[index]) != row:
+        # As long as nothing differs, the same numbers have been told, so this thing has been met.
+        if numbering.thing(numbering.met[index]) != row:
             return False
-    return len(numbering.met) == len(rows)
+    return True
 
 
 def _blank(told):
@@ -146,10 +147,7 @@ def _frame(told, editions, things):
     """The frame that a shape tells."""
     edition, path, scope, kept, makes, home = told
     layout = editions[edition].layout
-    parameters = layout.parameters[layout.code_around(path)]
-    first = None
-    if len(parameters) > 0:
-        first = parameters[0]
+    first = first_of(layout.parameters[layout.code_around(path)])
     frame = Frame(edition, path, things[scope], _thing(makes, things), _thing(home, things), first)
     frame.kept = [ending[:1] + tuple([_value(part, things) for part in ending[1:]]) for ending in kept]
     return frame

@@ -227,6 +227,15 @@ class Three(unittest.TestCase):
             run(lines("let a = 0", "let b = 0", *rows))
         self.assertEqual(last(lines("let b = 0", "ask b 'q'", "let a = 0", *rows), [True]), ("ever", []))
 
+    def test_only_a_while_closes_a_round(self):
+        rows = ["let a = 0", "let n = 0", "while yes", "  let a = 1", "  set n = (n + 1)", "  if (n == 748)", "    set n = 0"]
+        # A round has 4 * 748 + 1 statements. The second statement in the block comes first into the round, behind 4
+        # statements, and the while behind 6; so the while comes again two statements later.
+        self.assertEqual(last(lines(*["let b = 0"] * 1, *rows)), ("ever", []))
+        for many in (2, 3):
+            with self.assertRaises(TooMany):
+                run(lines(*["let b = 0"] * many, *rows))
+
     def test_runs_are_not_led_further_than_needed(self):
         self.assertEqual(last(lines("let a = 0", "ask a 'q'", "let n = 0", "while yes", "  set n = (n + 1)")), ("wait", "q"))
         with self.assertRaises(TooMany):

@@ -109,6 +109,7 @@ class Machines(unittest.TestCase):
             self.assertEqual(shape_of(other.frames), found)
             self.assertTrue(has_shape(machine.frames, found))
             self.assertEqual(other.event(), machine.event())
+            self.assertEqual([frame.first for frame in other.frames], [frame.first for frame in machine.frames])
             self.go_on(machine, row, count)
             self.go_on(other, row, count)
             self.assertEqual(other.take_told(), machine.take_told())
@@ -121,6 +122,20 @@ class Machines(unittest.TestCase):
             machine.step()
         else:
             machine.answer(count % 2 == len(row) % 2)
+
+    def test_each_kind_of_thing(self):
+        rows = ["class k", "  def m(self, x)", "    let y = [x, {1: x}, self.m, [k.m, f]]", "    try", "      raise y", "    last",
+                "      ask x 'q'", "class j over k", "  def make(self, o)", "    put o.j = self", "    call o.m({})", "def f(a)",
+                "  let o = call k()", "  call j(o)", "call f(1)"]
+        program = read(lines(*rows))
+        machine = started(program)
+        self.assertEqual(lead(machine), ([], ("ask", "q")))
+        found = shape_of(machine.frames)
+        words = sorted({row[0] for row in found[1]})
+        self.assertEqual(words, ["bound", "class", "function", "list", "object", "scope", "table"])
+        other = machine_at([program], found)
+        self.assertEqual(shape_of(other.frames), found)
+        self.assertEqual([frame.first for frame in other.frames], [None, "a", "self", "self"])
 
     def test_led_ones(self):
         for seed in range(60):

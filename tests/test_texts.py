@@ -187,6 +187,7 @@ class Lines(unittest.TestCase):
         self.assertEqual(line_of("if yes\n  if yes\n    say 1\n   say 1"), 3)
         self.assertEqual(line_of("if yes\n  say 1\n else\n  say 1"), 2)
         self.assertEqual(line_of("  say 1"), 0)
+        self.assertEqual(line_of("if yes\nxxsay 1"), 1)
         self.assertEqual(line_of("class k\n  def m(x)\n   say 1"), 2)
         self.assertEqual(line_of("class k\n  def m(x)\n      say 1"), 2)
         self.assertIsNone(line_of("if yes\n  if yes\n    say 1\n  say 1\nsay 1"))
@@ -331,11 +332,17 @@ class Lines(unittest.TestCase):
         for begin, end in (("(not ", ")"), ("len(", ")"), ("[", "]"), ("{", ": 1}"), ("{1: ", "}"), ("a[", "]"),
                            ("(1 + ", ")"), ("(", " + 1)"), ("[1, ", "]")):
             for depth in range(1, 9):
-                e = begin * (depth - 1) + "a" + end * (depth - 1)
-                for row in (f"say {e}", f"let b = {e}", f"add b, {e}", f"call b({e}, 1)", f"put {e}.b = {e}",
-                            f"put {e}[{e}] = 1", f"if {e}", f"class k over {e}", f"say call {e}({e})"):
-                    want = None if depth <= 5 else 0
-                    self.assertEqual(line_of(row), want, row)
+                for innermost in ("a", "[]", "{}", "7"):
+                    e = begin * (depth - 1) + innermost + end * (depth - 1)
+                    for row in (f"say {e}", f"let b = {e}", f"add b, {e}", f"call b({e}, 1)", f"put {e}.b = {e}",
+                                f"put {e}[{e}] = 1", f"if {e}", f"class k over {e}", f"say call {e}({e})"):
+                        want = None if depth <= 5 else 0
+                        self.assertEqual(line_of(row), want, row)
+
+    def test_depth_of_above(self):
+        for depth in range(1, 9):
+            row = "    say " + "(not " * (depth - 1) + "above m" + ")" * (depth - 1)
+            self.assertEqual(line_of(lines("class k", "  def m(x)", row)), None if depth <= 5 else 2)
 
     def test_depth_of_rows_of_fields(self):
         for many in range(9):

@@ -137,6 +137,15 @@ class LastBlocks(unittest.TestCase):
         rows = ["while yes", "  try", "    try", "      leave", "    last", "      say 1", "  last", "    say 2", "say 3"]
         self.assertEqual(said(lines(*rows)), ["1", "2", "3"])
 
+    def test_what_is_forgotten_is_not_kept(self):
+        for way in ("leave", "raise 1", "give 1"):
+            rows = ["let n = 0", "def f()", "  try", "    while yes", "      try", "        say 0", "      last", f"        {way}",
+                    "  catch e", "while yes", "  while yes", "    try", "      say 1", "    last", "      leave", "  call f()"]
+            self.assertEqual(run(lines(*rows)), [("ever", ["1", "0"])])
+            rows = ["def f()", "  while yes", "    try", "      while yes", "        try", "          give 5", "        last",
+                    "          leave", "      raise 6", "    catch e", "      say e", "    last", "      say 7", "call f()"]
+            self.assertEqual(run(lines(*rows)), [("ever", ["6", "7"])])
+
     def test_a_while_within_the_try_is_left_alone(self):
         rows = ["try", "  while yes", "    leave", "  say 1", "last", "  say 2", "say 3"]
         self.assertEqual(said(lines(*rows)), ["1", "2", "3"])
