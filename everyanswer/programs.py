@@ -22,7 +22,7 @@ class Program:
         return fresh(self._top)
 
     def __getitem__(self, at):
-        if not is_integers(at) or at not in self.layout.statements:
+        if not is_path(self, at):
             raise NoPath()
         return fresh(self.layout.statements[at])
 
@@ -48,3 +48,8 @@ class Program:
 
     def __eq__(self, other):
         return isinstance(other, Program) and self._top == other._top
+
+
+def is_path(program, thing):
+    """Whether a thing is the path of a statement of a program."""
+    return is_integers(thing) and thing in program.layout.statements

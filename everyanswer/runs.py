@@ -35,10 +35,11 @@ def events(program, answers):
     return out
 
 
-def lead(machine):
+def lead(machine, watch=None):
     """Leads a machine on to its next question or its end; one that goes on for ever is ended there.
 
-    Returns the words said since the last question and the event.
+    Returns the words said since the last question and the event. A watch looks at the machine wherever a statement is
+    begun, in a run that goes on for ever at least once for each moment of it.
     """
     start = shape_of(machine.frames)
     ahead = machine.take_told()
@@ -46,11 +47,15 @@ def lead(machine):
     last = 0
     for most in LOOKS:
         while machine.event() is None and steps < most:
+            if watch is not None:
+                watch.look(machine)
             machine.step()
             steps += 1
             if machine.stands_at_while():
                 last = steps
         if machine.event() is not None:
+            if watch is not None and machine.over is None:
+                watch.look(machine)
             return ahead + machine.take_told(), machine.event()
         found = _round(machine.editions, start, last)
         if found is not None:

@@ -3,6 +3,7 @@
 import inspect
 import sys
 
+from everyanswer.moments import start
 from everyanswer.runs import events
 from everyanswer.texts import read
 
@@ -55,6 +56,24 @@ def fails(program, answers=()):
     return found[-1][1]
 
 
+def at(program, answers=()):
+    """The moment to which the program with this text comes with these answers."""
+    _, moment = start(read(program))
+    for answer in answers:
+        _, moment = moment.answered(answer)
+    return moment
+
+
+def shape(*rows):
+    """The shape at the first question or the end of the program with these lines."""
+    return at(lines(*rows)).shape()
+
+
+def things(*rows):
+    """The things of that shape, the scope of the bottom frame first."""
+    return shape(*rows)[1]
+
+
 def worth(e, *ahead):
     """The words of an expression, behind these statements; both are texts."""
     return said(lines(*ahead, f"say {e}"))[-1]
@@ -63,6 +82,11 @@ def worth(e, *ahead):
 def fault(e, *ahead):
     """The error that arises in an expression, behind these statements; both are texts."""
     return fails(lines(*ahead, f"say {e}"))
+
+
+def counted(many):
+    """Lines that begin 3 + 2 * many statements: two lets, the whiles and the sets."""
+    return [f"let m = (({many // 100} * 100) + {many % 100})", "let n = 0", "while (n < m)", "  set n = (n + 1)"]
 
 
 def nested(depth, innermost, wrap):

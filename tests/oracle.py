@@ -1,6 +1,7 @@
 """A second, plainly recursive way to run a program, to compare the package with.
 
-It takes Python's own errors for give, leave and raise, knows no moments, and stops at a bound of statements.
+It takes Python's own errors for give, leave and raise, and stops at a bound of statements. It keeps a stack of contexts,
+of which a shape can be told, but it cannot go on from one: a run that is to go on is led again from its beginning.
 """
 
 import sys
@@ -45,10 +46,77 @@ class Env:
 
 
 class Context:
-    def __init__(self, env, home, first):
+    """What a frame is: path is that of its statement, kept is for the last blocks that are executed."""
+
+    def __init__(self, env, home, first, makes=None):
         self.env = env
         self.home = home
         self.first = first
+        self.makes = makes
+        self.path = None
+        self.kept = []
+
+
+class Teller:
+    """Tells the shape of a stack of contexts."""
+
+    def __init__(self):
+        self.met = []
+
+    def number(self, thing):
+        if thing is None:
+            return None
+        for at, known in enumerate(self.met):
+            if known is thing:
+                return at
+        self.met.append(thing)
+        return len(self.met) - 1
+
+    def value(self, value):
+        if isinstance(value, bool):
+            return ("yes",) if value else ("no",)
+        if isinstance(value, Thing):
+            return ("thing", self.number(value))
+        return value
+
+    def kept(self, kept):
+        return tuple((one[0],) + tuple(self.value(value) for value in one[1:]) for one in kept)
+
+    def rows(self, names):
+        return tuple((name, self.value(names[name])) for name in sorted(names))
+
+    def frame(self, ctx):
+        env = self.number(ctx.env)
+        kept = self.kept(ctx.kept)
+        makes = self.number(ctx.makes)
+        return (0, ctx.path, env, kept, makes, self.number(ctx.home))
+
+    def thing(self, thing):
+        if isinstance(thing, Env):
+            around = self.number(thing.around)
+            return ("scope", around, self.rows(thing.vars))
+        if thing.kind == "list":
+            return ("list", tuple(self.value(item) for item in thing.items))
+        if thing.kind == "table":
+            return ("table", tuple((self.value(k), self.value(v)) for k, v in thing.rows.values()))
+        if thing.kind == "bound":
+            owner = self.number(thing.owner)
+            return ("bound", owner, self.number(thing.function))
+        if thing.kind == "function":
+            env = self.number(thing.env)
+            return ("function", 0, thing.code, env, self.number(thing.home))
+        if thing.kind == "class":
+            over = self.number(thing.over)
+            return ("class", over, tuple((name, self.number(thing.methods[name])) for name in sorted(thing.methods)))
+        home = self.number(thing.home)
+        return ("object", home, self.rows(thing.fields))
+
+    def shape(self, stack):
+        frames = tuple([self.frame(ctx) for ctx in stack])
+        things = []
+        while len(things) < len(self.met):
+            things.append(self.thing(self.met[len(things)]))
+        return frames, tuple(things)
 
 
 def key_of(value):
@@ -56,9 +124,9 @@ def key_of(value):
 
 
 def kind_of(value):
-    names = {type(None): "none", bool: "truth", int: "number", str: "text"}
     if isinstance(value, Thing):
-        return {"bound": "function"}.get(value.kind, value.kind)
+        return "function" if value.kind == "bound" else value.kind
+    names = {type(None): "none", bool: "truth", int: "number", str: "text"}
     return names[type(value)]
 
 
@@ -102,20 +170,35 @@ def want(truth, text="kind"):
 
 
 class Oracle:
-    def __init__(self, answers, bound=3000):
+    """A run with a row of answers.
+
+    With rounds, it stops where a "while" is begun at a shape at which it was begun since the last question. begun tells
+    of each path behind how many answers it was begun first; names, with watch, which words each name had there. shape
+    and found are what is told of the question at which the answers are used up, and of the names there.
+    """
+
+    def __init__(self, answers, bound=3000, rounds=False, watch=False):
         self.answers = list(answers)
         self.bound = bound
+        self.rounds = rounds
+        self.watch = watch
         self.count = 0
-        self.frames = 0
+        self.asked = 0
+        self.stack = []
+        self.seen = []
         self.out = []
+        self.shape = ((), ())
+        self.begun = {}
+        self.names = {}
+        self.found = {}
 
     def run(self, block):
         """The events; last ("bound",) where the bound was met."""
         before = sys.getrecursionlimit()
         sys.setrecursionlimit(20000)
         try:
-            self.frames = 1
-            self.block(block, Context(Env(None), None, None))
+            self.stack = [Context(Env(None), None, None)]
+            self.block(block, self.stack[0], ())
             self.out.append(("ended",))
         except Raised as e:
             self.out.append(("failed", words_of(e.value)))
@@ -125,9 +208,9 @@ class Oracle:
             sys.setrecursionlimit(before)
         return self.out
 
-    def block(self, block, ctx):
-        for s in block:
-            self.statement(s, ctx)
+    def block(self, block, ctx, around):
+        for at, s in enumerate(block):
+            self.statement(s, ctx, around + (at,))
 
     def value(self, e, ctx):
         return getattr(self, "e_" + e[0])(e, ctx)
@@ -237,131 +320,174 @@ class Oracle:
         want(method, "field")
         return Thing("bound", owner=owner, function=method)
 
-    def statement(self, s, ctx):
-        if s[0] != "ask":
-            self.begin()
-        getattr(self, "s_" + s[0])(s, ctx)
+    def statement(self, s, ctx, path):
+        self.begin(s, ctx, path)
+        getattr(self, "s_" + s[0])(s, ctx, path)
 
-    def begin(self):
-        if self.count == self.bound:
-            raise Stopped(("bound",))
-        self.count += 1
+    def begin(self, s, ctx, path):
+        ctx.path = path
+        if s[0] == "while" and self.rounds:
+            self.look_back()
+        if s[0] != "ask":
+            if self.count == self.bound:
+                raise Stopped(("bound",))
+            self.count += 1
+        self.begun.setdefault(path, self.asked)
+        if self.watch:
+            for name, words in self.visible(ctx.env).items():
+                self.names.setdefault((path, name), set()).add(words)
+
+    def look_back(self):
+        shape = Teller().shape(self.stack)
+        for known, many in self.seen:
+            if known == shape:
+                raise Stopped(("ever", self.out[many:]))
+        self.seen.append((shape, len(self.out)))
 
     def assign(self, ctx, name, value):
         ctx.env.holder(name).vars[name] = value
 
-    def s_let(self, s, ctx):
+    def s_let(self, s, ctx, path):
         ctx.env.vars[s[1]] = self.value(s[2], ctx)
 
-    def s_set(self, s, ctx):
+    def s_set(self, s, ctx, path):
         self.assign(ctx, s[1], self.value(s[2], ctx))
 
-    def s_put(self, s, ctx):
+    def s_put(self, s, ctx, path):
         a = self.value(s[1], ctx)
         b = self.value(s[3], ctx)
         want(kind_of(a) == "object")
         a.fields[s[2]] = b
 
-    def s_place(self, s, ctx):
+    def s_place(self, s, ctx, path):
         self.place(*[self.value(e, ctx) for e in s[1:]])
 
-    def s_add(self, s, ctx):
+    def s_add(self, s, ctx, path):
         a = self.value(s[1], ctx)
         b = self.value(s[2], ctx)
         want(kind_of(a) == "list")
         want(len(a.items) < 12, "great")
         a.items.append(b)
 
-    def s_cut(self, s, ctx):
+    def s_cut(self, s, ctx, path):
         a = self.value(s[1], ctx)
         want(kind_of(a) == "list")
         want(a.items, "range")
         a.items.pop()
 
-    def s_say(self, s, ctx):
+    def s_say(self, s, ctx, path):
         self.out.append(("say", words_of(self.value(s[1], ctx))))
 
-    def s_ask(self, s, ctx):
+    def s_ask(self, s, ctx, path):
         self.count = 0
+        self.seen = []
         if not self.answers:
+            self.shape = Teller().shape(self.stack)
+            self.found = self.visible(ctx.env)
             raise Stopped(("wait", s[2]))
+        self.asked += 1
         self.out.append(("ask", s[2]))
         self.assign(ctx, s[1], self.answers.pop(0))
 
-    def s_if(self, s, ctx):
+    def visible(self, env):
+        """The words of all names that can be looked up from a scope."""
+        found = {} if env.around is None else self.visible(env.around)
+        found.update({name: words_of(value) for name, value in env.vars.items()})
+        return found
+
+    def s_if(self, s, ctx, path):
         a = self.value(s[1], ctx)
         want(kind_of(a) == "truth")
-        self.block(s[2] if a else s[3], ctx)
+        if a:
+            self.block(s[2], ctx, path + (0,))
+        else:
+            self.block(s[3], ctx, path + (1,))
 
-    def s_while(self, s, ctx):
+    def s_while(self, s, ctx, path):
         first = True
         while True:
             if not first:
-                self.begin()
+                self.begin(s, ctx, path)
             first = False
             a = self.value(s[1], ctx)
             want(kind_of(a) == "truth")
             if not a:
                 return
             try:
-                self.block(s[2], ctx)
+                self.block(s[2], ctx, path + (0,))
             except Left:
                 return
 
-    def s_leave(self, s, ctx):
+    def s_leave(self, s, ctx, path):
         raise Left()
 
-    def s_give(self, s, ctx):
+    def s_give(self, s, ctx, path):
         raise Given(self.value(s[1], ctx))
 
-    def s_raise(self, s, ctx):
+    def s_raise(self, s, ctx, path):
         raise Raised(self.value(s[1], ctx))
 
-    def s_try(self, s, ctx):
+    def s_try(self, s, ctx, path):
         _, block, name, caught, last = s
         try:
             try:
-                self.block(block, ctx)
+                self.block(block, ctx, path + (0,))
             except Raised as e:
                 if name is None:
                     raise
                 ctx.env.vars[name] = e.value
-                self.block(caught, ctx)
-        except (Raised, Given, Left):
-            self.block(last, ctx)
+                self.block(caught, ctx, path + (1,))
+        except Raised as e:
+            self.last(last, ctx, path, ("raise", e.value))
             raise
-        self.block(last, ctx)
+        except Given as e:
+            self.last(last, ctx, path, ("give", e.value))
+            raise
+        except Left:
+            self.last(last, ctx, path, ("leave",))
+            raise
+        self.last(last, ctx, path, ("on",))
 
-    def function(self, ctx, params, block, home):
-        return Thing("function", env=ctx.env, params=params, body=block, home=home)
+    def last(self, block, ctx, path, kept):
+        """A last block, for as long as this is kept; Python keeps what is on its way itself."""
+        ctx.kept.append(kept)
+        try:
+            self.block(block, ctx, path + (2,))
+        except (Raised, Given, Left):
+            ctx.kept.pop()
+            raise
+        ctx.kept.pop()
 
-    def s_def(self, s, ctx):
-        ctx.env.vars[s[1]] = self.function(ctx, s[2], s[3], None)
+    def function(self, ctx, params, block, home, code):
+        return Thing("function", env=ctx.env, params=params, body=block, home=home, code=code)
 
-    def s_class(self, s, ctx):
+    def s_def(self, s, ctx, path):
+        ctx.env.vars[s[1]] = self.function(ctx, s[2], s[3], None, path + (0,))
+
+    def s_class(self, s, ctx, path):
         over = None
         if s[2] is not None:
             over = self.value(s[2], ctx)
             want(kind_of(over) == "class")
         home = Thing("class", over=over, methods={})
-        for name, params, block in s[3]:
-            home.methods[name] = self.function(ctx, params, block, home)
+        for at, (name, params, block) in enumerate(s[3]):
+            home.methods[name] = self.function(ctx, params, block, home, path + (at,))
         ctx.env.vars[s[1]] = home
 
-    def invoke(self, function, values):
+    def invoke(self, function, values, makes=None):
         want(len(values) == len(function.params), "count")
-        want(self.frames < 20, "deep")
-        self.frames += 1
+        want(len(self.stack) < 20, "deep")
         env = Env(function.env)
         env.vars.update(zip(function.params, values))
         first = function.params[0] if function.params else None
+        self.stack.append(Context(env, function.home, first, makes))
         try:
-            self.block(function.body, Context(env, function.home, first))
+            self.block(function.body, self.stack[-1], function.code)
             return None
         except Given as e:
             return e.value
         finally:
-            self.frames -= 1
+            self.stack.pop()
 
     def apply(self, callee, values):
         kind = kind_of(callee)
@@ -369,7 +495,7 @@ class Oracle:
             made = Thing("object", home=callee, fields={})
             method = find_method(callee, "make")
             if method:
-                self.invoke(method, [made] + values)
+                self.invoke(method, [made] + values, made)
             else:
                 want(not values, "count")
             return made
@@ -378,7 +504,7 @@ class Oracle:
             return self.invoke(callee.function, [callee.owner] + values)
         return self.invoke(callee, values)
 
-    def s_call(self, s, ctx):
+    def s_call(self, s, ctx, path):
         _, how, name, e, args = s
         callee = self.value(e, ctx)
         result = self.apply(callee, [self.value(a, ctx) for a in args])

@@ -2,7 +2,7 @@
 
 import unittest
 
-from helping import last, lines, lists_in, run, say, shallow
+from helping import counted, last, lines, lists_in, run, say, shallow
 
 from everyanswer.errors import NoAnswers, TooMany
 from everyanswer.programs import Program
@@ -175,13 +175,8 @@ class ForEver(unittest.TestCase):
 class Three(unittest.TestCase):
     """Three thousand statements."""
 
-    def counted(self, many):
-        """Begins 3 + 2 * many statements ahead of what follows: let, the whiles and the sets."""
-        hundreds = f"(({many // 100} * 100) + {many % 100})"
-        return [f"let m = {hundreds}", "let n = 0", "while (n < m)", "  set n = (n + 1)"]
-
     def test_the_last_one_that_is_begun(self):
-        rows = self.counted(1498)
+        rows = counted(1498)
         # 1498 rounds begin 2 + 2 * 1498 + 1 = 2999 statements.
         self.assertEqual(last(lines(*rows)), ("ended",))
         self.assertEqual(last(lines(*rows, "say 1")), ("ended",))
@@ -190,14 +185,14 @@ class Three(unittest.TestCase):
         self.assertEqual(caught.exception.many, 3000)
 
     def test_an_ask_is_not_counted(self):
-        rows = self.counted(1498)
+        rows = counted(1498)
         self.assertEqual(last(lines(*rows, "say 1", "ask n 'q'")), ("wait", "q"))
         with self.assertRaises(TooMany):
             run(lines(*rows, "say 1", "if yes", "  ask n 'q'"))
         self.assertEqual(last(lines(*rows, "if yes", "  ask n 'q'")), ("wait", "q"))
 
     def test_counted_anew_behind_each_question(self):
-        rows = self.counted(1498) + ["say 1", "ask n 'q'"] + self.counted(1498) + ["say 1"]
+        rows = counted(1498) + ["say 1", "ask n 'q'"] + counted(1498) + ["say 1"]
         self.assertEqual(last(lines(*rows), [True]), ("ended",))
         self.assertEqual(last(lines(*rows)), ("wait", "q"))
         self.assertEqual(last(lines(*rows, "ask n 'r'"), [True]), ("wait", "r"))
@@ -206,13 +201,13 @@ class Three(unittest.TestCase):
         self.assertEqual(last(lines(*rows, "say 2"), []), ("wait", "q"))
 
     def test_an_error_at_the_last_one(self):
-        rows = self.counted(1498)
+        rows = counted(1498)
         self.assertEqual(last(lines(*rows, "raise 1")), ("failed", "1"))
         with self.assertRaises(TooMany):
             run(lines(*rows, "say 1", "raise 1"))
 
     def test_a_call_counts_once(self):
-        rows = ["def f()"] + self.counted(1497)
+        rows = ["def f()"] + counted(1497)
         # One for the def, so the calls begin with 2998 statements.
         self.assertEqual(last(lines(*rows, "call f()", "call f()")), ("ended",))
         with self.assertRaises(TooMany):

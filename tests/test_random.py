@@ -4,24 +4,12 @@ import unittest
 
 from making import answers, made, made_flow
 from oracle import Oracle
+from plainly import shortest
 
 from everyanswer.errors import TooMany
 from everyanswer.machines import started
 from everyanswer.runs import events
 from everyanswer.shapes import shape_of
-
-
-def shortest(ahead, rows):
-    """The shortest lists, looked for one after the other."""
-    if not rows:
-        return ahead, []
-    whole = ahead + rows * 3
-    end = len(ahead) + 2 * len(rows)
-    for first in range(len(ahead) + 1):
-        for size in range(1, len(rows) + 1):
-            if all(whole[at] == whole[at + size] for at in range(first, end)):
-                return whole[:first], whole[first:first + size]
-    raise AssertionError()
 
 
 def plainly_led(machine):
