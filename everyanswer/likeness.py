@@ -6,7 +6,7 @@ from everyanswer.runs import are_answers
 
 
 def alike(one, other):
-    """The pairs of moments to which two moments come with the same answers, or the first shortest row that parts them."""
+    """The pairs of moments to which two moments come by the same answers, or the first shortest row that parts them."""
     lefts = explored(one, MOST_MOMENTS)
     rights = explored(other, MOST_MOMENTS)
     if one.event() != other.event():

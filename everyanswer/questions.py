@@ -10,14 +10,14 @@ from everyanswer.values import scope_with, value_words
 
 
 class Watch:
-    """Sees where the statement at a path is begun and, unless the name is None, with which words of the name.
+    """Sees where the statement at a path is begun and, unless None is sought, with which words of the name sought.
 
     It watches runs of one edition only, so that the path alone tells the statement.
     """
 
-    def __init__(self, path, name):
+    def __init__(self, path, sought):
         self.path = path
-        self.name = name
+        self.sought = sought
         self.seen = False
         self.words = {}
 
@@ -27,11 +27,11 @@ class Watch:
         if frame.path != self.path:
             return
         self.seen = True
-        if self.name is None:
+        if self.sought is None:
             return
-        holder = scope_with(frame.scope, self.name)
+        holder = scope_with(frame.scope, self.sought)
         if holder is not None:
-            self.words[value_words(holder.names[self.name])] = True
+            self.words[value_words(holder.names[self.sought])] = True
 
     def take(self):
         """Whether the statement has been begun since this was asked last."""

@@ -254,6 +254,9 @@ class Equal(unittest.TestCase):
         self.assertFalse(moment != moment.answered(False)[1])
         self.assertFalse(moment == moment.answered(True)[1])
         self.assertTrue(moment != moment.answered(True)[1])
+        self.assertIs(moment == moment.answered(False)[1], True)
+        for other in (moment.answered(True)[1], at("say 1"), at(ASKS + "\nsay 1")):
+            self.assertIs(moment == other, False)
         rows = "let a = no\nwhile yes\n  ask a 'q'"
         self.assertFalse(at(rows) == at(rows, [True]))
         self.assertTrue(at(rows) == at(rows, [False]))
