@@ -3,6 +3,7 @@
 import inspect
 import sys
 
+from everyanswer.errors import TooMany
 from everyanswer.moments import start
 from everyanswer.runs import events
 from everyanswer.texts import read
@@ -30,6 +31,11 @@ def say(n=1):
 
 def lines(*rows):
     return "\n".join(rows)
+
+
+# Counts the answers, and begins anew behind so many: as many moments as this number.
+TURNS = lines("let n = 0", "let a = no", "while yes", "  ask a 'q'", "  let a = no", "  set n = (n + 1)", "  if (n == {})",
+              "    set n = 0")
 
 
 def run(program, answers=()):
@@ -82,6 +88,15 @@ def worth(e, *ahead):
 def fault(e, *ahead):
     """The error that arises in an expression, behind these statements; both are texts."""
     return fails(lines(*ahead, f"say {e}"))
+
+
+def many_of(function, *values):
+    """The number that is exceeded."""
+    try:
+        function(*values)
+    except TooMany as e:
+        return e.many
+    return None
 
 
 def counted(many):

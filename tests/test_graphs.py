@@ -2,14 +2,12 @@
 
 import unittest
 
-from helping import at, counted, lines, lists_in
+from helping import TURNS, at, counted, lines, lists_in, many_of
 
-from everyanswer.errors import NoMost, TooMany
+from everyanswer.errors import NoMost
 from everyanswer.graphs import graph
 from everyanswer.moments import Moment
 
-# Counts the answers, and begins anew behind so many.
-TURNS = lines("let n = 0", "let a = no", "while yes", "  ask a 'q'", "  let a = no", "  set n = (n + 1)", "  if (n == {})", "    set n = 0")
 LONG = ["  let n = 0", "  while (n < (999 * 9))", "    set n = (n + 1)"]
 
 
@@ -20,11 +18,7 @@ def bare(rows):
 
 def fault(moment, **more):
     """The number that is exceeded."""
-    try:
-        graph(moment, **more)
-    except TooMany as e:
-        return e.many
-    return None
+    return many_of(lambda: graph(moment, **more))
 
 
 class Rows(unittest.TestCase):

@@ -2,30 +2,18 @@
 
 import unittest
 
-from helping import at, counted, lines, lists_in
+from helping import TURNS, at, counted, lines, lists_in, many_of
 
-from everyanswer.errors import TooMany
 from everyanswer.graphs import graph
 from everyanswer.likeness import alike, alike_programs, apart_fault, kinds, relation_fault
 from everyanswer.moments import start
 from everyanswer.programs import Program
 from everyanswer.texts import read
 
-# Counts the answers, and begins anew behind so many.
-TURNS = lines("let n = 0", "let a = no", "while yes", "  ask a 'q'", "  let a = no", "  set n = (n + 1)", "  if (n == {})", "    set n = 0")
 ENDLESS = lines("let n = 0", "while yes", "  set n = (n + 1)")
 # A run that is too long behind no, behind yes and behind both.
 LONG_NO, LONG_YES, LONG = (lines("let a = 1", "ask a 'q'", f"if {e}", "  let n = 0", "  while yes", "    set n = (n + 1)")
                            for e in ("(not a)", "a", "yes"))
-
-
-def many_of(function, *values):
-    """The number that is exceeded."""
-    try:
-        function(*values)
-    except TooMany as e:
-        return e.many
-    return None
 
 
 def relation(one, other):

@@ -2,9 +2,9 @@
 
 import unittest
 
-from helping import at, counted, lines, lists_in, shallow
+from helping import at, counted, lines, lists_in, many_of, shallow
 
-from everyanswer.errors import NoAnswer, NoName, NotAsked, TooMany
+from everyanswer.errors import NoAnswer, NoName, NotAsked
 from everyanswer.graphs import graph
 from everyanswer.likeness import alike, apart_fault, kinds, relation_fault
 from everyanswer.machines import started
@@ -22,15 +22,6 @@ OVER = ("say 1", "raise 1", "while yes", "")
 
 def begin(*rows):
     return start(read(lines(*rows)))
-
-
-def many_of(function, *values):
-    """The number that is exceeded."""
-    try:
-        function(*values)
-    except TooMany as e:
-        return e.many
-    return None
 
 
 class Start(unittest.TestCase):

@@ -2,27 +2,16 @@
 
 import unittest
 
-from helping import at, counted, lines, lists_in
+from helping import TURNS, at, counted, lines, lists_in, many_of
 
-from everyanswer.errors import NoName, NoPath, TooMany
+from everyanswer.errors import NoName, NoPath
 from everyanswer.graphs import graph
 from everyanswer.programs import Program
 from everyanswer.questions import always, avoids_fault, ever, values
 from everyanswer.texts import read
 
 ENDLESS = ["let n = 0", "while yes", "  set n = (n + 1)"]
-# 200 or more moments: counts the answers, and begins anew behind so many.
-TURNS = lines("let n = 0", "let a = no", "while yes", "  ask a 'q'", "  let a = no", "  set n = (n + 1)", "  if (n == {})", "    set n = 0")
 NO_PATHS = (None, 0, True, "", (), [0], [], (9,), (-1,), (True,), (False,), (0, 0), (0, 0, 0), ("0",), ((0,),), (None,), {}, Program([]))
-
-
-def many_of(function, *values):
-    """The number that is exceeded."""
-    try:
-        function(*values)
-    except TooMany as e:
-        return e.many
-    return None
 
 
 class Ever(unittest.TestCase):
