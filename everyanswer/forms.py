@@ -225,6 +225,14 @@ def blocks_of(statement):
     return out
 
 
+def inner_block(top, at):
+    """The block, not copied, with this path within a top block: that of its statement and its number, or ()."""
+    block = top
+    for k in range(0, len(at), 2):
+        block = blocks_of(block[at[k]])[at[k + 1]]
+    return block
+
+
 def has_above(thing):
     """Whether an expression, or a part of one, contains an "above"."""
     if first_word(thing) == "above":

@@ -1,15 +1,22 @@
 """Which moments, also of two programs, go on alike for every row of answers."""
 
-from everyanswer.graphs import MOST_MOMENTS, explored
+from everyanswer.graphs import MOST_MOMENTS, explored, whole
 from everyanswer.moments import Moment, firm, led_on, start
 from everyanswer.runs import are_answers
 
 
 def alike(one, other):
     """The pairs of moments to which two moments come by the same answers, or the first shortest row that parts them."""
-    lefts = explored(one, MOST_MOMENTS)
-    rights = explored(other, MOST_MOMENTS)
-    if one.event() != other.event():
+    lefts = whole(one, MOST_MOMENTS)
+    return matched(lefts, whole(other, MOST_MOMENTS))
+
+
+def matched(lefts, rights):
+    """The same for the first moments of two graphs, which are made no further than this needs them.
+
+    Where the two are alike, both have been made to their ends.
+    """
+    if lefts.moments[0].event() != rights.moments[0].event():
         return ("apart", [])
     pairs = [(0, 0)]
     # From which pair, by which answer, each pair was come to first.
@@ -17,8 +24,8 @@ def alike(one, other):
     at = 0
     while at < len(pairs):
         left, right = pairs[at]
-        for answer, (said, goal, _), (words, aim, _) in zip((False, True), lefts[left][1], rights[right][1]):
-            if said != words or lefts[goal][0].event() != rights[aim][0].event():
+        for answer, (said, goal, _), (words, aim, _) in zip((False, True), lefts.behind(left), rights.behind(right)):
+            if said != words or lefts.moments[goal].event() != rights.moments[aim].event():
                 return ("apart", _row_to(ways, pairs[at]) + [answer])
             if (goal, aim) not in ways:
                 ways[(goal, aim)] = (pairs[at], answer)

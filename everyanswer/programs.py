@@ -42,7 +42,7 @@ class Program:
 
     def body(self, code):
         """The block of a code."""
-        if not is_integers(code) or code not in self.layout.bodies:
+        if not is_code(self, code):
             raise NoCode()
         return fresh(self.layout.bodies[code])
 
@@ -53,3 +53,8 @@ class Program:
 def is_path(program, thing):
     """Whether a thing is the path of a statement of a program."""
     return is_integers(thing) and thing in program.layout.statements
+
+
+def is_code(program, thing):
+    """Whether a thing is a code of a program."""
+    return is_integers(thing) and thing in program.layout.bodies

@@ -158,6 +158,9 @@ def _at(e, frame):
 
 
 def _above(e, frame):
+    if frame.home is None:
+        # No program brings this about; an expression that a session looks at may.
+        raise Arises("field")
     owner = looked_up(frame.scope, frame.first)
     if not isinstance(owner, Instance):
         raise Arises("kind")

@@ -3,6 +3,7 @@
 import random
 
 from making import Maker
+from rebuilding import replaced
 
 from everyanswer.errors import NoProgram
 from everyanswer.programs import Program
@@ -130,27 +131,9 @@ def varied(program, seed, paths):
         path = source.choice(paths)
         kind = source.choice(["wrapped", "turned", "cut", "twice", "answer"])
         try:
-            return Program(exchanged(program.block(), path, kind))
+            return Program(replaced(program.block(), path, instead(program[path], kind)))
         except NoProgram:
             continue
-
-
-def exchanged(block, path, kind):
-    """The block with another statement at this path."""
-    index = path[0]
-    statement = block[index]
-    if len(path) > 1:
-        parts = list(statement)
-        if statement[0] == "class":
-            methods = list(statement[3])
-            name, params, body = methods[path[1]]
-            methods[path[1]] = (name, params, exchanged(body, path[2:], kind))
-            parts[3] = methods
-        else:
-            at = {"if": (2, 3), "while": (2,), "def": (3,), "try": (1, 3, 4)}[statement[0]][path[1]]
-            parts[at] = exchanged(parts[at], path[2:], kind)
-        return block[:index] + [tuple(parts)] + block[index + 1:]
-    return block[:index] + instead(statement, kind) + block[index + 1:]
 
 
 def instead(statement, kind):

@@ -29,6 +29,16 @@ def say(n=1):
     return ("say", num(n))
 
 
+# A statement of each kind that may stand in the top block outside of a while, but for those that have blocks.
+ALL_KINDS = [
+    ("let", "a", YES), ("set", "a", YES), ("put", name("o"), "x", num(1)), ("place", name("l"), num(0), num(1)),
+    ("add", name("l"), num(1)), ("cut", name("l")), say(2), ("ask", "a", "q"), ("call", "drop", None, name("f"), []),
+    ("raise", text("a")), ("class", "k", None, []),
+]
+# What is no path, no code, no name, no block and no expression.
+NOTHING = [None, True, False, 0, -1, "", "0", "let", "a b", {}, {0: 1}, ("no such",), (("a",),), ([],), [[]], 1 << 70]
+
+
 def lines(*rows):
     return "\n".join(rows)
 

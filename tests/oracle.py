@@ -6,6 +6,8 @@ of which a shape can be told, but it cannot go on from one: a run that is to go 
 
 import sys
 
+from rebuilding import body_of, with_body
+
 
 class Thing:
     def __init__(self, kind, **fields):
@@ -48,11 +50,13 @@ class Env:
 class Context:
     """What a frame is: path is that of its statement, kept is for the last blocks that are executed."""
 
-    def __init__(self, env, home, first, makes=None):
+    def __init__(self, env, home, first, makes=None, edition=0, code=()):
         self.env = env
         self.home = home
         self.first = first
         self.makes = makes
+        self.edition = edition
+        self.code = code
         self.path = None
         self.kept = []
 
@@ -89,7 +93,7 @@ class Teller:
         env = self.number(ctx.env)
         kept = self.kept(ctx.kept)
         makes = self.number(ctx.makes)
-        return (0, ctx.path, env, kept, makes, self.number(ctx.home))
+        return (ctx.edition, ctx.path, env, kept, makes, self.number(ctx.home))
 
     def thing(self, thing):
         if isinstance(thing, Env):
@@ -104,7 +108,7 @@ class Teller:
             return ("bound", owner, self.number(thing.function))
         if thing.kind == "function":
             env = self.number(thing.env)
-            return ("function", 0, thing.code, env, self.number(thing.home))
+            return ("function", thing.edition, thing.code, env, self.number(thing.home))
         if thing.kind == "class":
             over = self.number(thing.over)
             return ("class", over, tuple((name, self.number(thing.methods[name])) for name in sorted(thing.methods)))
@@ -170,11 +174,12 @@ def want(truth, text="kind"):
 
 
 class Oracle:
-    """A run with a row of answers.
+    """A run with a row of answers, among which (code, block) stands for an exchange at the next question.
 
     With rounds, it stops where a "while" is begun at a shape at which it was begun since the last question. begun tells
-    of each path behind how many answers it was begun first; names, with watch, which words each name had there. shape
-    and found are what is told of the question at which the answers are used up, and of the names there.
+    of each path behind how many answers it was begun first; names, with watch, which words each name had there. shape,
+    codes and found are what is told of the question at which the answers are used up, and of the names there; context is
+    the newest one there.
     """
 
     def __init__(self, answers, bound=3000, rounds=False, watch=False):
@@ -182,12 +187,16 @@ class Oracle:
         self.bound = bound
         self.rounds = rounds
         self.watch = watch
+        self.editions = []
+        self.functions = []
         self.count = 0
         self.asked = 0
         self.stack = []
         self.seen = []
         self.out = []
         self.shape = ((), ())
+        self.codes = []
+        self.context = None
         self.begun = {}
         self.names = {}
         self.found = {}
@@ -197,6 +206,7 @@ class Oracle:
         before = sys.getrecursionlimit()
         sys.setrecursionlimit(20000)
         try:
+            self.editions = [block]
             self.stack = [Context(Env(None), None, None)]
             self.block(block, self.stack[0], ())
             self.out.append(("ended",))
@@ -314,6 +324,7 @@ class Oracle:
         return a.rows[key_of(k)][1]
 
     def e_above(self, e, ctx):
+        want(ctx.home, "field")
         owner = ctx.env.holder(ctx.first).vars[ctx.first]
         want(kind_of(owner) == "object")
         method = find_method(ctx.home.over, e[1])
@@ -381,13 +392,39 @@ class Oracle:
     def s_ask(self, s, ctx, path):
         self.count = 0
         self.seen = []
+        while self.answers and isinstance(self.answers[0], tuple):
+            self.exchange(*self.answers.pop(0))
         if not self.answers:
-            self.shape = Teller().shape(self.stack)
-            self.found = self.visible(ctx.env)
-            raise Stopped(("wait", s[2]))
+            self.stop(("wait", s[2]))
         self.asked += 1
         self.out.append(("ask", s[2]))
         self.assign(ctx, s[1], self.answers.pop(0))
+
+    def stop(self, event):
+        self.shape = Teller().shape(self.stack)
+        self.codes = [one.code for one in self.stack]
+        self.context = self.stack[-1]
+        self.found = self.visible(self.context.env)
+        raise Stopped(event)
+
+    def exchange(self, code, block):
+        """Makes an edition more, by going through all the functions and frames that there are."""
+        newest = len(self.editions) - 1
+        self.editions.append(with_body(self.editions[newest], code, block))
+        for function in self.functions:
+            within = len(function.code) > len(code) and function.code[:len(code)] == code
+            if function.edition == newest and not within:
+                function.edition += 1
+        for one in self.stack:
+            if one.edition == newest and one.code[:len(code)] != code:
+                one.edition += 1
+
+    def look(self, e):
+        """What an expression comes to where the run stopped."""
+        try:
+            return ("value", words_of(self.value(e, self.context)))
+        except Raised as raised:
+            return ("error", words_of(raised.value))
 
     def visible(self, env):
         """The words of all names that can be looked up from a scope."""
@@ -458,11 +495,14 @@ class Oracle:
             raise
         ctx.kept.pop()
 
-    def function(self, ctx, params, block, home, code):
-        return Thing("function", env=ctx.env, params=params, body=block, home=home, code=code)
+    def function(self, ctx, params, home, code):
+        """A function; its block is looked up when it is called, since that may be exchanged until then."""
+        function = Thing("function", env=ctx.env, params=params, home=home, edition=ctx.edition, code=code)
+        self.functions.append(function)
+        return function
 
     def s_def(self, s, ctx, path):
-        ctx.env.vars[s[1]] = self.function(ctx, s[2], s[3], None, path + (0,))
+        ctx.env.vars[s[1]] = self.function(ctx, s[2], None, path + (0,))
 
     def s_class(self, s, ctx, path):
         over = None
@@ -470,8 +510,8 @@ class Oracle:
             over = self.value(s[2], ctx)
             want(kind_of(over) == "class")
         home = Thing("class", over=over, methods={})
-        for at, (name, params, block) in enumerate(s[3]):
-            home.methods[name] = self.function(ctx, params, block, home, path + (at,))
+        for at, (name, params, _) in enumerate(s[3]):
+            home.methods[name] = self.function(ctx, params, home, path + (at,))
         ctx.env.vars[s[1]] = home
 
     def invoke(self, function, values, makes=None):
@@ -480,9 +520,9 @@ class Oracle:
         env = Env(function.env)
         env.vars.update(zip(function.params, values))
         first = function.params[0] if function.params else None
-        self.stack.append(Context(env, function.home, first, makes))
+        self.stack.append(Context(env, function.home, first, makes, function.edition, function.code))
         try:
-            self.block(function.body, self.stack[-1], function.code)
+            self.block(body_of(self.editions[function.edition], function.code), self.stack[-1], function.code)
             return None
         except Given as e:
             return e.value
@@ -516,3 +556,22 @@ class Oracle:
             self.out.append(("say", words_of(result)))
         elif how == "give":
             raise Given(result)
+
+
+class Stepping(Oracle):
+    """A run with a row of deeds: None for a step, answers, and exchanges; it stops where the deeds are used up."""
+
+    def begin(self, s, ctx, path):
+        ctx.path = path
+        if s[0] == "ask":
+            return
+        if not self.answers:
+            self.stop(("ahead",))
+        assert self.answers.pop(0) is None
+
+    def told(self, block):
+        """The event, and all the words said."""
+        out = self.run(block)
+        assert self.answers == [], self.answers
+        event = ("ask", out[-1][1]) if out[-1][0] == "wait" else out[-1]
+        return event, [event[1] for event in out if event[0] == "say"]

@@ -63,9 +63,9 @@ class Plain:
         self.known = {}
 
     def led(self, row):
-        if tuple(row) not in self.known:
-            self.known[tuple(row)] = Led(self.program, row)
-        return self.known[tuple(row)]
+        if repr(row) not in self.known:
+            self.known[repr(row)] = Led(self.program, row)
+        return self.known[repr(row)]
 
     def graph(self, most):
         """The rows of answers that lead to the moments of the graph first, and the graph."""

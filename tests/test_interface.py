@@ -12,12 +12,19 @@ FUNCTIONS = {
     "questions": ["ever(program, path)", "always(program, path)", "avoids_fault(program, path, thing)", "values(program, path, name)"],
     "likeness": ["alike(one, other)", "alike_programs(one, other)", "relation_fault(one, other, thing)", "apart_fault(one, other, thing)",
                  "kinds(moment)"],
+    "rewritings": ["turned(program, path)", "unrolled(program, path)", "parted(program, path)", "wrapped(program, path)",
+                   "renamed(program, name, other)", "cut_out(program, path)", "needless(program)"],
+    "looks": ["reached(moment)", "sharing(moment, name, other)"],
+    "exchange": ["exchanged(moment, code, block)", "safe(moment, code, block)"],
 }
 CLASSES = {
     ("programs", "Program"): ["block(self)", "paths(self)", "codes(self)", "body(self, code)", "__len__(self)", "__getitem__(self, at)",
                               "__eq__(self, other)"],
     ("moments", "Moment"): ["event(self)", "answered(self, answer)", "shape(self)", "programs(self)", "value(self, name)",
                             "__eq__(self, other)"],
+    ("sessions", "Session"): ["__init__(self, program)", "step(self)", "answer(self, answer)", "go(self)", "back(self)", "__len__(self)",
+                              "path(self)", "codes(self)", "said(self)", "shape(self)", "event(self)", "look(self, e)", "moment(self)",
+                              "exchange(self, code, block)", "tried(self, action)", "same_as(self, other)"],
 }
 
 
