@@ -179,7 +179,7 @@ class Needless(unittest.TestCase):
         both = self.size(program) + self.size(other)
         if self.size(other) == 0:
             return False
-        if both > 5:
+        if both > 4:
             return alike_programs(program, other)[0] == "alike"
         one, two = Plain(program), Plain(other)
         return one.led([]).said == two.led([]).said and parting(one, [], two, [], both - 1) is None

@@ -224,6 +224,8 @@ class Sessions(unittest.TestCase):
             try:
                 said, moment = moment.answered(row[at - 1]) if moment else start(program)
             except TooMany:
+                if at:
+                    session.answer(row[at - 1])
                 self.assertRaises(TooMany, session.go)
                 self.assertRaises(TooMany, events, program, row[:at])
                 return

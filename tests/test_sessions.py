@@ -1,6 +1,7 @@
 """Sessions, in which a program is led step by step, and back: point [41]."""
 
 import unittest
+import unittest.mock
 
 from helping import NOTHING, TURNS, YES, at, counted, lines, lists_in, name, num, say, text
 
@@ -8,6 +9,7 @@ from everyanswer.errors import (
     AnswerError, NoAnswer, NoBack, NoCode, NoExpression, NoProgram, NotAsked, Over, TooMany, Waiting,
 )
 from everyanswer.exchange import exchanged
+from everyanswer.machines import Machine
 from everyanswer.moments import Moment, start
 from everyanswer.programs import Program
 from everyanswer.runs import events
@@ -376,6 +378,16 @@ class Back(unittest.TestCase):
             self.assertEqual(one.path(), [(1, 0, 1), (1,), (1, 0, 0)][many % 3])
             self.assertEqual(one.look(name("n")), ("value", str(many // 3)))
             self.assertEqual(len(one.said()), (many - 1) // 3)
+
+    def test_few_steps_are_led_anew(self):
+        for rows, most in ((ENDLESS, 60), (["let a = []", "while yes", "  set a = [a]"], 1600)):
+            one = session(*rows)
+            self.assertRaises(TooMany, one.go)
+            with unittest.mock.patch.object(Machine, "step", autospec=True, side_effect=Machine.step) as step:
+                for _ in range(100):
+                    one.back()
+                    one.path()
+            self.assertLess(step.call_count, 100 * most)
 
     def test_growing_things(self):
         one = session("let a = []", "while yes", "  set a = [a]")
